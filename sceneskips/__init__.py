@@ -1,0 +1,1 @@
+"""Sceneskips: stories whose scenes can be skipped."""
