@@ -47,6 +47,20 @@ ALL_KINDS = [
 ]
 
 
+def disturb(scenes):
+    """Change lists and dicts of every kind within a copy of ALL_KINDS."""
+    scenes[0][1][10][4].append(("show", "new"))
+    scenes[0][1][10][5].clear()
+    scenes[0][1][11][1].append(("new", {}, []))
+    scenes[0][1][12][1][0][1]["a"] = (5, 6)
+    scenes[0][1][12][1][1][2][0][1][0][2].clear()
+    scenes[0][1].append(("show", "new"))
+    scenes[2][2][0][0].clear()
+    scenes[2][2][0][1]["c"] = ("set", 3)
+    scenes[2][2].append(({}, {}))
+    scenes.pop()
+
+
 def refused(value):
     """The index with which the value is refused, or "taken"."""
     try:
@@ -164,32 +178,14 @@ class StoryTest(unittest.TestCase):
         scenes = copy.deepcopy(ALL_KINDS)
         story = Story(scenes)
         self.assertEqual(scenes, ALL_KINDS)
-        scenes[0][1][10][4].append(("show", "new"))
-        scenes[0][1][10][5].clear()
-        scenes[0][1][11][1].append(("new", {}, []))
-        scenes[0][1][12][1][0][1]["a"] = (5, 6)
-        scenes[0][1][12][1][1][2][0][1][0][2].clear()
-        scenes[0][1].append(("show", "new"))
-        scenes[2][2][0][0].clear()
-        scenes[2][2][0][1]["c"] = ("set", 3)
-        scenes[2][2].append(({}, {}))
-        scenes.pop()
+        disturb(scenes)
         self.assertEqual(story.scenes(), ALL_KINDS)
         self.assertEqual(story, Story(ALL_KINDS))
 
     def test_what_was_returned_may_change(self):
         story = Story(ALL_KINDS)
         scenes = story.scenes()
-        scenes[0][1][10][4].append(("show", "new"))
-        scenes[0][1][10][5].clear()
-        scenes[0][1][11][1].append(("new", {}, []))
-        scenes[0][1][12][1][0][1]["a"] = (5, 6)
-        scenes[0][1][12][1][1][2][0][1][0][2].clear()
-        scenes[0][1].append(("show", "new"))
-        scenes[2][2][0][0].clear()
-        scenes[2][2][0][1]["c"] = ("set", 3)
-        scenes[2][2].append(({}, {}))
-        scenes.pop()
+        disturb(scenes)
         story.names().clear()
         self.assertEqual(story.scenes(), ALL_KINDS)
         self.assertEqual(story.names(), ["start", "next", "last"])
