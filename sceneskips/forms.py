@@ -4,7 +4,7 @@ The functions that begin with is_ take any value. The others take what has the f
 """
 
 from sceneskips.notes import NO_PART, in_order, is_integer, is_name
-from sceneskips.patterns import NO_LIMITS
+from sceneskips.spans import NO_LIMITS
 
 DEEPEST = 5
 ENTRIES = {"show": 2, "set": 3, "add": 3, "need": 4, "if": 6, "choose": 2, "scene": 2}

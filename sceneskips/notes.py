@@ -21,6 +21,16 @@ def in_order(names):
     return sorted([str(name) for name in names])
 
 
+def rank(k):
+    """Return an integer from 0 that tells the place of the integer k in the order of notes."""
+    return 2 * abs(k) + (1 if k < 0 else 0)
+
+
+def ranked(place):
+    """Return the integer that has this place."""
+    return -(place // 2) if place & 1 else place // 2
+
+
 def _without_zeros(values):
     return {name: values[name] for name in values if values[name] != 0}
 
@@ -72,6 +82,10 @@ class Notes:
         """Return the names and integers of the notes that are not 0."""
         return [(name, self._values[name]) for name in in_order(self._values)]
 
+    def copied(self):
+        """Return a copy of these notes."""
+        return Notes(self._values)
+
     def __add__(self, other):
         if not isinstance(other, Change):
             return NotImplemented
@@ -118,6 +132,31 @@ class Notes:
         return place
 
 
+def lesser(one, other):
+    """Return the notes that come first; None comes last."""
+    if one is None or (other is not None and other < one):
+        return other
+    return one
+
+
+def by_notes(rows):
+    """Return a list of the tuples in the order of the notes with which they begin."""
+    if len(rows) < 2:
+        return list(rows)
+    middle = len(rows) // 2
+    first, second = by_notes(rows[:middle]), by_notes(rows[middle:])
+    merged = []
+    at, other = 0, 0
+    while at < len(first) and other < len(second):
+        if second[other][0] < first[at][0]:
+            merged.append(second[other])
+            other = other + 1
+        else:
+            merged.append(first[at])
+            at = at + 1
+    return merged + first[at:] + second[other:]
+
+
 class Change:
     """What is added to notes, or what they are set to."""
 
@@ -128,6 +167,10 @@ class Change:
     def parts(self):
         """Return a list of tuples (name, kind, k)."""
         return [(name, self._parts[name][0], self._parts[name][1]) for name in in_order(self._parts)]
+
+    def part(self, name):
+        """Return the part of this name."""
+        return self._parts.get(name, NO_PART)
 
     def __len__(self):
         return len(self._parts)

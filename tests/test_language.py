@@ -8,7 +8,7 @@ import unittest
 FOLDER = pathlib.Path(__file__).resolve().parent.parent / "sceneskips"
 FILES = sorted(FOLDER.glob("**/*.py"))
 BUILTINS = set("""len range enumerate zip min max sum abs sorted reversed int str bool list tuple dict set isinstance
-ord repr any all divmod Exception ValueError TypeError KeyError IndexError LookupError ZeroDivisionError
+ord repr any all divmod property Exception ValueError TypeError KeyError IndexError LookupError ZeroDivisionError
 NotImplemented NotImplementedError""".split())
 METHODS = set("""append clear copy count endswith extend find get index insert isalnum isalpha isdigit islower isspace
 isupper items join keys ljust lower lstrip partition pop remove replace reverse rfind rjust rpartition rsplit rstrip
@@ -42,6 +42,16 @@ def called(node):
     return node.func.id if isinstance(node, ast.Call) and isinstance(node.func, ast.Name) else None
 
 
+def properties(tree):
+    """The functions that stand below @property."""
+    return [node for node in functions(tree) if node.decorator_list]
+
+
+def imported(tree):
+    """Tuples (module, name) for all imports of the file."""
+    return [(node.module, alias.name) for node in tree.body if isinstance(node, ast.ImportFrom) for alias in node.names]
+
+
 class LanguageTest(unittest.TestCase):
 
     def test_files(self):
@@ -72,6 +82,76 @@ class LanguageTest(unittest.TestCase):
                     for alias in node.names:
                         self.assertIsNone(alias.asname)
                         self.assertIn(alias.name, names, path)
+
+    def test_no_files_import_from_each_other(self):
+        needs = {path.stem: {module.split(".")[1] for module, name in imported(tree)} for path, tree in trees()}
+        left = dict(needs)
+        while left:
+            free = [stem for stem in left if not needs[stem] & set(left)]
+            self.assertNotEqual(free, [], left)
+            for stem in free:
+                del left[stem]
+
+    def test_imports_are_used_and_not_hidden(self):
+        for path, tree in trees():
+            taken = {name for module, name in imported(tree)} | {n.name for n in tree.body if isinstance(n,
+                                                                                                         ast.ClassDef)}
+            inner = {node.arg for node in ast.walk(tree) if isinstance(node, ast.arg)}
+            inner |= {node.id for node in ast.walk(tree) if isinstance(node,
+                                                                       ast.Name) and isinstance(node.ctx, ast.Store)}
+            self.assertEqual(taken & inner, set(), path)
+            read = {node.id for node in ast.walk(tree) if isinstance(node, ast.Name) and isinstance(node.ctx, ast.Load)}
+            self.assertEqual({name for module, name in imported(tree)} - read, set(), path)
+
+    def test_module_level(self):
+        for path, tree in trees():
+            bound = [node.targets[0].id for node in tree.body if isinstance(node, ast.Assign)]
+            self.assertEqual(len(bound), len(set(bound)), path)
+            for node in tree.body:
+                self.assertIsInstance(node, (ast.Expr, ast.ImportFrom, ast.Assign, ast.FunctionDef, ast.ClassDef), path)
+                if isinstance(node, ast.Assign):
+                    inner = [child for value in ast.iter_child_nodes(node.value) for child in ast.walk(value)]
+                    self.assertFalse(any(isinstance(child, (ast.List, ast.Dict, ast.Call)) for child in inner), path)
+
+    def test_properties(self):
+        names = {function.name for path, tree in trees() for function in properties(tree)}
+        plain = {function.name for path, tree in trees() for function in functions(tree) if not function.decorator_list}
+        self.assertEqual(names & plain, set())
+        for path, tree in trees():
+            for function in properties(tree):
+                self.assertEqual([ast.unparse(item) for item in function.decorator_list], ["property"])
+                self.assertFalse(any(isinstance(node, ast.Assign) for node in ast.walk(function)),
+                                 (path, function.name))
+            for node in ast.walk(tree):
+                if isinstance(node, ast.Attribute) and isinstance(node.ctx, ast.Store):
+                    self.assertNotIn(node.attr, names, path)
+                if isinstance(node, ast.Name) and node.id == "property":
+                    self.assertTrue(any(node in function.decorator_list for function in properties(tree)), path)
+
+    def test_no_name_is_a_method_and_an_attribute(self):
+        methods = {node.name for path, tree in trees() for one in ast.walk(tree) if isinstance(one, ast.ClassDef)
+                   for node in one.body if isinstance(node, ast.FunctionDef)}
+        for path, tree in trees():
+            for node in ast.walk(tree):
+                if isinstance(node, ast.Attribute) and isinstance(node.ctx, ast.Store):
+                    self.assertNotIn(node.attr, methods, path)
+
+    def test_interface(self):
+        # What the document lists stands in this very file and in this very class.
+        for file, found in {
+            "plays": ["Play", "Play.__init__", "Play.state", "Play.question", "Play.shown", "Play.answers",
+                      "Play.notes",
+                      "Play.__len__", "Play.answer", "Play.back", "resumed"],
+            "ways": ["Way", "Way.pattern", "Way.change", "Way.answers", "Way.shown", "Way.end", "Way.__call__", "ways",
+                     "outcomes"],
+            "checks": ["wrong_notes", "table", "is_table", "loose_notes"],
+            "whole": ["wrong_play", "bad_play", "twin"],
+        }.items():
+            body = ast.parse((FOLDER / (file + ".py")).read_text()).body
+            names = {node.name for node in body if isinstance(node, (ast.FunctionDef, ast.ClassDef))}
+            names |= {f"{node.name}.{inner.name}" for node in body if isinstance(node, ast.ClassDef)
+                      for inner in node.body if isinstance(inner, ast.FunctionDef)}
+            self.assertEqual([name for name in found if name not in names], [])
 
     def test_statements_and_names(self):
         for path, tree in trees():

@@ -6,7 +6,8 @@ import unittest
 
 from sceneskips.errors import NoCommon
 from sceneskips.notes import Change, Notes
-from sceneskips.patterns import Pattern, least_outside, within
+from sceneskips.patterns import Pattern, least_outside
+from sceneskips.spans import within
 
 from tests.test_notes import HUGE, LONG, grid
 
