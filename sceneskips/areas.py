@@ -4,7 +4,7 @@ What remains of notes behind many ifs on one note has gaps. Kept as spans, the g
 one name do not multiply with those of the other names.
 """
 
-from sceneskips.notes import Notes, in_order, rank, ranked
+from sceneskips.notes import Notes, in_order, lesser, rank, ranked
 from sceneskips.spans import NO_LIMITS, beside, common_spans, in_some, led, led_spans, nearest
 
 
@@ -22,6 +22,10 @@ class Area:
         """Return the spans of this name."""
         return self._spans.get(name, [NO_LIMITS])
 
+    def key(self):
+        """Return a tuple that is the same for areas with the same spans."""
+        return tuple([(name, tuple(self._spans[name])) for name in self.names()])
+
     def has(self, notes):
         """Tell whether the notes are in the area."""
         return all([in_some(notes[name], self._spans[name]) for name in self._spans])
@@ -32,7 +36,7 @@ class Area:
 
     def kept(self, name, spans):
         """Return the area of those notes that are in the spans at this name, or None."""
-        left = common_spans(self.spans(name), spans)
+        left = common_spans(self._spans[name], spans) if name in self._spans else spans
         if len(left) == 0:
             return None
         return Area({**self._spans, name: left})
@@ -67,6 +71,13 @@ def _nearest_of(spans):
     return ranked(min([int(rank(nearest(low, high))) for low, high in spans]))
 
 
+def least_of(least, areas):
+    """Return the least notes of these, which may be None, and of those in the areas."""
+    for area in areas:
+        least = lesser(least, area.least())
+    return least
+
+
 def area_within(limits):
     """Return the area of the notes for which the limits hold."""
     return Area({name: [limits[name]] for name in limits})
@@ -93,6 +104,8 @@ def parted(areas, change, limits):
     """
     inside = areas
     outside = []
+    if len(limits) == 0:
+        return inside, outside
     for name in in_order(limits):
         part = change.part(name)
         there = led(limits[name], part[0], part[1])

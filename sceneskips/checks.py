@@ -1,12 +1,13 @@
 """Whether skips are right, the tables that show it, and whether scenes are exact."""
 
-from sceneskips.areas import all_met, parted
+from sceneskips.areas import all_met
 from sceneskips.cover import least_beyond, search
 from sceneskips.errors import InvalidScene, NoSkip
-from sceneskips.notes import Change, lesser
+from sceneskips.exact import least_loose
+from sceneskips.notes import lesser
 from sceneskips.patterns import Pattern, area_of, least_outside, patterns_in
 from sceneskips.runs import Runs
-from sceneskips.skips import agreement, right_plays, shares, wrong_places
+from sceneskips.skips import right_areas, right_plays, shares, wrong_places
 
 
 def wrong_notes(story, scene):
@@ -35,24 +36,16 @@ def table(story, scene):
 def is_table(story, scene, items):
     """Tell whether the list of tuples (pattern, answers) is a table of the scene."""
     skip, stops = _skip_and_ends(story, scene)
+    rows = shares(skip)
     for pattern, answers in items:
-        if not _is_right(skip, [stop for stop in stops if stop.book == answers], area_of(pattern)):
+        if not _is_right(rows, [stop for stop in stops if stop.book == answers], area_of(pattern)):
             return False
     return least_outside(Pattern(), [pattern for pattern, answers in items]) is None
 
 
 def loose_notes(story, scene):
     """Return the least notes at which the scene is not exact, or None."""
-    runs = Runs(story, scene, False)
-    ended = runs.ended()
-    least = None
-    for stop in runs.ends:
-        if stop.place != "ended":
-            least = _least_of(least, stop.areas)
-    for at, one in enumerate(ended):
-        for other in ended[at + 1:]:
-            least = _least_of(least, _differing(one, other))
-    return least
+    return least_loose(Runs(story, scene, False))
 
 
 def _skip_and_ends(story, scene):
@@ -72,26 +65,10 @@ def _items(share, plays):
             for both in all_met(pieces, area) for pattern in patterns_in(both)]
 
 
-def _is_right(skip, stops, area):
-    """Tell whether at all notes of the area one of these plays leaves what the skip leaves."""
-    for place, areas in wrong_places(skip, stops):
-        both = place.met(area)
-        if both is not None and least_beyond(both, areas) is not None:
+def _is_right(rows, stops, area):
+    """Tell whether at all notes of the area one of these plays leaves what the share that counts does."""
+    for share in rows:
+        both = share.area.met(area)
+        if both is not None and least_beyond(both, right_areas(share, stops)) is not None:
             return False
     return True
-
-
-def _least_of(least, areas):
-    """Return the least notes of these and of those in the areas."""
-    for area in areas:
-        least = lesser(least, area.least())
-    return least
-
-
-def _differing(one, other):
-    """Return areas which together are the notes from which both plays can go and leave others."""
-    limits = agreement(one.effect, other.effect)
-    if limits == {}:
-        return []
-    both = [area for item in one.areas for area in all_met(other.areas, item)]
-    return both if limits is None else parted(both, Change(), limits)[1]

@@ -18,6 +18,9 @@ def is_integer(value):
 
 def in_order(names):
     """Return a list of the names in alphabetical order."""
+    # This is asked for so often that the time counts.
+    if len(names) < 2:
+        return list(names)
     return sorted([str(name) for name in names])
 
 
@@ -171,6 +174,10 @@ class Change:
     def part(self, name):
         """Return the part of this name."""
         return self._parts.get(name, NO_PART)
+
+    def then(self, name, part):
+        """Return the change that does this one and then the part."""
+        return Change({**self._parts, name: _joined(self.part(name), part)})
 
     def __len__(self):
         return len(self._parts)

@@ -44,6 +44,8 @@ def after_skip(skip, notes):
 def agreement(one, other):
     """Return the limits of the notes from which both changes leave the same, or None."""
     limits = {}
+    if one == other:
+        return limits
     for row in one.parts() + other.parts():
         mine, theirs = one.part(row[0]), other.part(row[0])
         if mine[0] == theirs[0] and mine[1] != theirs[1]:
@@ -52,6 +54,12 @@ def agreement(one, other):
             k = theirs[1] - mine[1] if mine[0] == "add" else mine[1] - theirs[1]
             limits[row[0]] = (k, k)
     return limits
+
+
+def differing(areas, one, other):
+    """Return areas which together are the notes of the areas from which both changes leave others."""
+    limits = agreement(one, other)
+    return areas if limits is None else parted(areas, Change(), limits)[1]
 
 
 def right_plays(share, stops):
@@ -67,6 +75,11 @@ def right_plays(share, stops):
     return found
 
 
+def right_areas(share, stops):
+    """Return areas: at the notes of the share that are in none of them, the skip is wrong."""
+    return share.earlier + [area for area, answers in right_plays(share, stops)]
+
+
 def wrong_places(skip, stops):
     """Return tuples (area, areas): the skip is wrong at the notes in area that are in none of the areas."""
-    return [(share.area, share.earlier + [play[0] for play in right_plays(share, stops)]) for share in shares(skip)]
+    return [(share.area, right_areas(share, stops)) for share in shares(skip)]

@@ -3,16 +3,17 @@
 from sceneskips.areas import all_met, all_sources
 from sceneskips.cover import least_beyond
 from sceneskips.errors import WrongSkip
+from sceneskips.firsts import first_of
 from sceneskips.notes import lesser
 from sceneskips.patterns import area_of
 from sceneskips.plays import Play, give
-from sceneskips.runs import Runs
+from sceneskips.runs import Runs, runs_of_all
 from sceneskips.skips import after_skip, wrong_places
 
 
 def wrong_play(story, start):
     """Return the first play (notes, answers) that asks whether to skip where that is wrong, or None."""
-    runs = _runs_of_all(story)
+    runs = runs_of_all(story)
     begin = area_of(start)
     places = {}
     for name, steps, skip in story.scenes():
@@ -23,19 +24,19 @@ def wrong_play(story, start):
     for stop in runs.questions:
         # The search takes long, and no play with more answers comes first.
         if best is None or len(stop.book) <= len(best[1]):
-            best = _first(best, _least_wrong(stop, begin, places[stop.place]), stop.book)
+            best = first_of(best, _least_wrong(stop, begin, places[stop.about]), stop.book)
     return best
 
 
 def bad_play(story, start):
     """Return the first play (notes, answers) that ends as "stuck" or "lost", or None."""
-    runs = _runs_of_all(story)
+    runs = runs_of_all(story)
     begin = area_of(start)
     best = None
     for stop in runs.ends:
         if stop.place != "ended":
             for area in all_met(stop.areas, begin):
-                best = _first(best, area.least(), stop.book)
+                best = first_of(best, area.least(), stop.book)
     return best
 
 
@@ -66,28 +67,6 @@ def _watched(name, stops, here, left):
         if stop.begins_at(here) and here + stop.effect == left:
             return stop.book
     raise WrongSkip(name, here)
-
-
-def _runs_of_all(story):
-    """Return the runs of all plays of the story: none of its scenes may have too many."""
-    runs = [Runs(story, name, True) for name in story.names()]
-    return runs[0]
-
-
-def _first(best, notes, answers):
-    """Return that play of both which comes first; notes and best may be None."""
-    if notes is None or (best is not None and _comes_first(best, (notes, answers))):
-        return best
-    return (notes, list(answers))
-
-
-def _comes_first(one, other):
-    """Tell whether the one of two plays (notes, answers) comes first, or they are the same."""
-    if len(one[1]) != len(other[1]):
-        return len(one[1]) < len(other[1])
-    if one[0] != other[0]:
-        return one[0] < other[0]
-    return one[1] <= other[1]
 
 
 def _least_wrong(stop, begin, places):

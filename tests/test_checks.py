@@ -2,13 +2,16 @@
 
 import itertools
 import unittest
+from unittest import mock
 
+from sceneskips import exact
 from sceneskips.checks import is_table, loose_notes, table, wrong_notes
-from sceneskips.errors import InvalidScene, NoSkip, TooMany
+from sceneskips.errors import InvalidScene, NoCommon, NoSkip, TooMany
 from sceneskips.notes import Notes
 from sceneskips.patterns import Pattern, least_outside
 from sceneskips.plays import resumed
 from sceneskips.stories import Story
+from sceneskips.ways import ways
 
 from tests.brute import Looker, Maker, plain, skipped
 from tests.test_notes import HUGE, comes_first, grid
@@ -484,6 +487,62 @@ class LooseTest(unittest.TestCase):
                                                                                                       plain(found))))
         self.assertGreater(exact, 50)
         self.assertGreater(loose, 50)
+
+    def test_each_pair_of_ways(self):
+        exact, loose = 0, 0
+        for first in range(5000, 5150):
+            story = Story(Maker(first, "abc"[:1 + first % 3], 3).scenes())
+            for scene in story.names():
+                try:
+                    found = loose_notes(story, scene)
+                except TooMany:
+                    continue
+                self.assertEqual(found, self.least_of_pairs(ways(story, scene)))
+                exact, loose = exact + (found is None), loose + (found is not None)
+        self.assertGreater(exact, 50)
+        self.assertGreater(loose, 100)
+
+    def least_of_pairs(self, found):
+        least = [way.pattern.least() for way in found if way.end != "ended"]
+        for one, other in itertools.combinations([way for way in found if way.end == "ended"], 2):
+            try:
+                both = one.pattern & other.pattern
+            except NoCommon:
+                continue
+            same = self.where_the_same(one.change, other.change)
+            notes = least_outside(both, [] if same is None else [same])
+            least += [] if notes is None else [notes]
+        return min(least, default=None)
+
+    def where_the_same(self, one, other):
+        """The pattern of the notes from which both changes leave the same, or None."""
+        mine = {name: (kind, k) for name, kind, k in one.parts()}
+        theirs = {name: (kind, k) for name, kind, k in other.parts()}
+        limits = {}
+        for name in {**mine, **theirs}:
+            parts = dict([mine.get(name, ("add", 0)), theirs.get(name, ("add", 0))])
+            if len(parts) == 2:
+                limits[name] = (parts["set"] - parts["add"],) * 2
+            elif mine.get(name) != theirs.get(name):
+                return None
+        return Pattern(limits)
+
+    def test_nearly_three_hundred_runs(self):
+        # Each pair of runs would be too many to look at.
+        four, two = choice(4), choice(2)
+        up = ("if", "a", 0, 3, [("add", "a", 1)], [("set", "b", 7)])
+        down = ("if", "b", None, 1, [("add", "b", 1)], [("add", "a", 2)])
+        last = ("choose", [("x", {}, []), ("y", {}, [("need", "a", None, 90)])])
+        change = ("choose", [(word, {}, [("add", "n", at)]) for at, word in enumerate("wxyz")])
+        mixed = ("choose", [("x", {}, [("set", "n", 0)]), ("y", {}, [])])
+        for steps, wanted in [([("choose", [("x", {}, [four] * 4), ("y", {}, [two, four, four])])], None),
+                              ([four, four, up, down, up, down], None), ([up, down, up, down, four, four], None),
+                              ([four, four, up, down, last], {"a": 89}), ([up, down, up, last, four, two], {"a": 89}),
+                              ([change] * 4, {}), ([up, four, change, four], {}),
+                              ([mixed, four, four, four, two], {"n": 1}), ([four, up, down, mixed, four], {"n": 1})]:
+            with mock.patch.object(exact, "differing", wraps=exact.differing) as looked:
+                self.check(wanted, *steps)
+            self.assertLess(looked.call_count, 100, steps)
 
 
 class ErrorsTest(unittest.TestCase):
