@@ -146,6 +146,10 @@ class LanguageTest(unittest.TestCase):
                      "outcomes"],
             "checks": ["wrong_notes", "table", "is_table", "loose_notes"],
             "whole": ["wrong_play", "bad_play", "twin"],
+            "least": ["fewest_rows"],
+            "alike": ["parting"],
+            "texts": ["show_story", "read_story"],
+            "desk": ["Desk", "Desk.__init__", "Desk.execute"],
         }.items():
             body = ast.parse((FOLDER / (file + ".py")).read_text()).body
             names = {node.name for node in body if isinstance(node, (ast.FunctionDef, ast.ClassDef))}
