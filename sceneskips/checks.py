@@ -12,16 +12,17 @@ from sceneskips.skips import right_areas, right_plays, shares, wrong_places
 
 def wrong_notes(story, scene):
     """Return the least notes at which the skip of the scene is wrong, or None."""
-    skip, stops = _skip_and_ends(story, scene)
+    skip, runs = _skip_and_runs(story, scene)
     least = None
-    for area, areas in wrong_places(skip, stops):
+    for area, areas in wrong_places(skip, runs.different()):
         least = lesser(least, least_beyond(area, areas))
     return least
 
 
 def table(story, scene):
     """Return a table of the scene, or None if its skip is wrong."""
-    skip, stops = _skip_and_ends(story, scene)
+    skip, runs = _skip_and_runs(story, scene)
+    stops = runs.different()
     items = []
     for share in shares(skip):
         plays = right_plays(share, stops)
@@ -35,7 +36,8 @@ def table(story, scene):
 
 def is_table(story, scene, items):
     """Tell whether the list of tuples (pattern, answers) is a table of the scene."""
-    skip, stops = _skip_and_ends(story, scene)
+    skip, runs = _skip_and_runs(story, scene)
+    stops = runs.ended()
     rows = shares(skip)
     for pattern, answers in items:
         if not _is_right(rows, [stop for stop in stops if stop.book == answers], area_of(pattern)):
@@ -48,14 +50,14 @@ def loose_notes(story, scene):
     return least_loose(Runs(story, scene, False))
 
 
-def _skip_and_ends(story, scene):
-    """Return the skip of the scene, and the watched plays that end as "ended"."""
+def _skip_and_runs(story, scene):
+    """Return the skip of the scene, and the runs of its watched plays."""
     skips = {name: skip for name, steps, skip in story.scenes()}
     if scene not in skips:
         raise InvalidScene("no scene has this name")
     if skips[scene] is None:
         raise NoSkip("the scene has no skip")
-    return skips[scene], Runs(story, scene, False).ended()
+    return skips[scene], Runs(story, scene, False)
 
 
 def _items(share, plays):

@@ -170,6 +170,13 @@ class Runs(Stretch):
         """Return those ends that are "ended"."""
         return [stop for stop in self.ends if stop.place == "ended"]
 
+    def different(self):
+        """Return those ends that are "ended", but of those with the same areas and effect only the first."""
+        found = {}
+        for stop in self.ended():
+            found.setdefault((tuple(stop.areas), tuple(stop.effect.parts())), stop)
+        return list(found.values())
+
     def _choose(self, walk, options):
         self._wait([walk.chosen(walk.areas, option) for option in options])
 

@@ -18,7 +18,7 @@ def wrong_play(story, start):
     places = {}
     for name, steps, skip in story.scenes():
         if skip is not None:
-            found = wrong_places(skip, Runs(story, name, False).ended())
+            found = wrong_places(skip, Runs(story, name, False).different())
             places[name] = [place for place in found if least_beyond(place[0], place[1]) is not None]
     best = None
     for stop in runs.questions:
