@@ -241,7 +241,9 @@ class RefusedTest(unittest.TestCase):
             self.steps("if a 1 1\nelse\n" * (many - 1) + "show x" + "\nend" * (many - 1))
             self.steps("choose\noption x\n" * (many - 1) + "show x" + "\nend" * (many - 1))
             self.steps(first + "if a 1 1\nelse\nend" + last)
-        self.steps("if a 1 1\n" * 440, "choose\noption x\n" * 240, "if a 1 1\nelse\n" * 280, "if a 1 1\n" * 20000)
+        self.steps("if a 1 1\n" * 440, "choose\noption x\n" * 240, "if a 1 1\nelse\n" * 280)
+        for text in ["if a 1 1\n", "if a 1 1\nelse\n", "choose\noption x\n"]:
+            self.steps(text * 5000, text * 5000 + "end")
         for inner in ["show x", "if a 1 1\nelse\nend", "choose\noption x\nend"]:
             text = "scene a\n" + "if a 1 1\n" * 4 + inner + "\nelse\nend" * 4
             self.assertEqual(show_story(read_story(text)), text)
